@@ -37,11 +37,10 @@ class Futures:
         return self.codes[bar]
 
     def moved(self, code, letter):
-        """Return the codes of what is barred behind a letter by a bar, or None if it is what the letter does."""
+        """Return the codes of what is barred behind a letter by a bar of two things or more."""
         key = (code, letter)
         if key not in self.moves:
-            found = bars_behind(self.bars[code], letter)
-            self.moves[key] = None if found is None else [self.code_of(bar) for bar in found]
+            self.moves[key] = [self.code_of(bar) for bar in bars_behind(self.bars[code], letter)]
         return self.moves[key]
 
     def started(self, many, letter):
@@ -68,13 +67,11 @@ class Futures:
             return None
         barred = {code: True for code in begun}
         for code in codes:
-            moved = self.moved(code, letter)
-            if moved is None:
-                return None
-            for other in moved:
+            for other in self.moved(code, letter):
                 barred[other] = True
         kept = []
         for code in sorted(barred):
+            # Something must come into each slot: so nothing is let where one thing in a slot is barred.
             if len(self.bars[code][0]) == 1:
                 return None
             if not any([part in barred for part in self.inner[code]]):
@@ -128,7 +125,7 @@ def parts_of_bar(bar):
 
 
 def bars_behind(bar, letter):
-    """Return the list of what a bar bars behind a letter, or None if the letter does what is barred."""
+    """Return the list of what a bar of two things or more bars behind a letter."""
     numbers, cells = bar
     slot = letter[0]
     left, right = sides_of(letter)
@@ -142,8 +139,6 @@ def bars_behind(bar, letter):
             found.append((numbers, cells[:start] + (left,) * (cut - start) + (right,) * (end - cut) + behind))
     at = numbers.index(1)
     if cells[at] == slot and (at == start or left) and (at + 1 == end or right):
-        if len(numbers) == 1:
-            return None
         fewer = cells[:start] + (left,) * (at - start) + (right,) * (end - at - 1) + behind
         found.append((without_least(numbers), fewer))
     return found

@@ -4,7 +4,7 @@ Each modulus is 2 to an exponent less 1, a prime of Mersenne's. The greater ones
 a smaller one turns out wrong.
 """
 
-EXPONENTS = (127, 521, 1279, 2203, 4423, 9941, 19937)
+EXPONENTS = (127, 521, 1279, 2203, 4423)
 
 
 def moduli():

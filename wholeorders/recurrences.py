@@ -44,12 +44,14 @@ def rule_by(numbers, modulus):
             gap = 0
         signs = mended
         gap += 1
-    signs = signs + [0] * (length + 1 - len(signs))
-    return [-times for times in signs[1:length + 1]]
+    return [-times for times in signs[1:]]
 
 
 def mend(signs, elder, gap, times, modulus):
-    """Return signs less times the elder ones, those being put back by a gap."""
+    """Return signs less times the elder ones, those being put back by a gap.
+
+    There are always as many signs as the rule has numbers, and one more: the gap grows just so.
+    """
     mended = signs + [0] * (gap + len(elder) - len(signs))
     for at, sign in enumerate(elder):
         mended[at + gap] = (mended[at + gap] - times * sign) % modulus

@@ -116,8 +116,8 @@ def letter_for(order, number):
     """Return the letter that puts a number of an order, those less than it being put already."""
     place = order.index(number)
     slot = 1
-    for at in range(1, place + 1):
-        if order[at - 1] >= number and order[at] < number:
+    for at in range(1, place):
+        if order[at - 1] > number and order[at] < number:
             slot += 1
     left = place > 0 and order[place - 1] > number
     right = place + 1 < len(order) and order[place + 1] > number
