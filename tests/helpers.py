@@ -1,7 +1,9 @@
 """What tests of several files need: slow ways to the same answers, straight from what the document says."""
 
+import functools
 import unittest
-from itertools import combinations, permutations
+from fractions import Fraction
+from itertools import combinations, permutations, product
 
 THREE_KINDS_STOPPED = ((2, 3, 1),)
 TWO = ((2, 3, 1), (3, 1, 2))
@@ -28,6 +30,32 @@ STOPPING_LISTS = (
     ((3, 1, 2), (2, 3, 1), (3, 2, 1, 4)), ((2, 3, 4, 1, 5), (3, 2, 1)),
     ((2, 3, 1), (2, 3, 1), (1, 2, 3, 5, 4), (4, 3, 2, 1)),
     ((5, 2, 1, 3, 4), (1, 4, 3, 5, 2), (1, 3, 2, 4), (1, 2, 3), (3, 2, 5, 1, 4)))
+
+STAIRS = ((3, 2, 1), (2, 3, 4, 1), (3, 4, 1, 2), (4, 1, 2, 3))
+FEW_LISTS = (
+    NOTHING, ((1, 2),), RISING, ((1, 2), (2, 1)), ((2, 3, 1),), TWO, ((1, 2, 3), (3, 2, 1)),
+    ((2, 4, 1, 3), (3, 1, 4, 2)), ((1, 2, 3), (4, 3, 2, 1)), STAIRS + ((2, 4, 1, 5, 3),),
+    ((3, 2, 1), (3, 1, 2, 4)), ((1, 3, 2),), STAIRS + ((2, 1, 4, 3, 6, 5),), ((1, 2, 3, 4, 5), (3, 2, 1)),
+    ((1, 2, 3, 4), (3, 4, 1, 2), (4, 2, 3, 1)), ((2, 4, 3, 1), (2, 3, 1, 4, 5), (2, 4, 1, 5, 3), (3, 1, 4, 2)),
+    ((3, 1, 2, 4), (2, 1, 5, 4, 3), (3, 5, 2, 1, 4), (4, 5, 1, 2, 3), (5, 2, 4, 1, 3)))
+FAMILY_LISTS = (
+    ((), ("between", 0)), (((2, 1, 3, 4),), ("between", 0)), (((2, 4, 3, 1),), ("between", 1)),
+    (((2, 3, 1, 4),), ("between", 2)), (((1, 4, 3, 2),), ("between", 3)),
+    (((3, 2, 1, 4), (4, 2, 1, 3)), ("between", 4)), (((2, 3, 4, 1), (3, 2, 4, 1)), ("between", 5)),
+    (((3, 1, 2, 4), (4, 1, 2, 3)), ("between", 6)), (((1, 4, 3, 2), (3, 4, 2, 1)), ("between", 7)),
+    (((1, 3, 4, 2), (2, 3, 1, 4)), ("open", 0)), (((1, 4, 3, 2), (4, 1, 2, 3)), ("open", 1)),
+    (((3, 1, 2, 4), (4, 2, 1, 3)), ("open", 4)), (((1, 4, 3, 2), (2, 3, 4, 1)), ("open", 5)),
+    (((3, 2, 1),), ("parallel", 0)), (((1, 2, 3),), ("parallel", 1)), (((3, 2, 1), (2, 4, 1, 3)), ("parallel", 4)),
+    (((1, 2, 3), (3, 1, 4, 2)), ("parallel", 5)), (((2, 4, 1, 3),), ("between", 1)))
+ROAD_LISTS = (
+    (STAIRS, ((1, "r", "d"), ("l", "d"))), (((1, 2, 3), (1, 4, 3, 2)), ((1, "d", "l"), ("u", "l"))),
+    (((3, 4, 1, 2), (4, 3, 2, 1)), ((1, "d", "l", "d"), ("l", "d"))),
+    (((1, 2, 3, 4), (2, 1, 4, 3)), ((1, "d", "l", "u"), ("l", "u"))),
+    (((1, 3, 4, 2), (1, 4, 3, 2), (1, 2, 3, 4, 5)), ((1, "r", "u"), ("l", "u"))),
+    (((1, 4, 3, 2), (2, 1, 3, 4, 5)), ((1, "d", "l", "d", "r"), ("d", "r"))),
+    (((1, 2, 3, 4, 5), (4, 3, 2, 1, 5)), ((1, "r", "d", "r", "u", "l"), ("u", "l"))),
+    (((2, 3, 4, 1), (3, 2, 1, 4), (3, 1, 5, 2, 4), (3, 5, 4, 1, 2)),
+     ((1, "u", "r", "d", "l"), ("u", "l", "d", "l"))))
 
 ENDLESS_LISTS = (
     ((), (-1, -1)), (((1, 2, 3), (3, 4, 1, 2)), (-1, -1)), (((3, 1, 2),), (-1, 1)), (((2, 4, 1, 3),), (-1, 1)),
@@ -64,6 +92,84 @@ def slow_pattern(numbers):
 def slow_lets(forbidden, order):
     """Tell whether an order shows none of a list."""
     return not any(slow_places(order, pattern) for pattern in forbidden)
+
+
+def slow_blocks(order):
+    """Return all stretches of places whose numbers are a stretch of integers."""
+    found = []
+    for start in range(len(order)):
+        for end in range(start + 1, len(order) + 1):
+            numbers = sorted(order[start:end])
+            if numbers == list(range(numbers[0], numbers[0] + len(numbers))):
+                found.append((start, end))
+    return found
+
+
+def slow_is_simple(order):
+    """Tell whether an order is simple, as the document says it."""
+    trivial = [(at, at + 1) for at in range(len(order))] + [(0, len(order))]
+    return len(order) >= 4 and sorted(trivial) == slow_blocks(order)
+
+
+@functools.lru_cache(maxsize=None)
+def all_simple(n):
+    """Return all simple orders of n things, ascending."""
+    return [order for order in all_orders(n) if slow_is_simple(order)]
+
+
+def simple_to(n):
+    """Return all simple orders of at most n things, by length and then as tuples."""
+    return [order for many in range(4, n + 1) for order in all_simple(many)]
+
+
+def left_of(order):
+    """Return the set of the orders that are left of an order without one thing."""
+    return {slow_pattern(order[:at] + order[at + 1:]) for at in range(len(order))}
+
+
+def all_pin_words(n):
+    """Return all pin words of n letters, ascending."""
+    if n == 0:
+        return [()]
+    found = []
+    for word in product((1, 2, 3, 4), *["dlru"] * (n - 1)):
+        if all((word[at] in "ud") != (word[at - 1] in "ud") for at in range(2, n)):
+            found.append(word)
+    return found
+
+
+def slow_pins(word):
+    """Return the (x, y) of the things of a pin word about the point (0, 0)."""
+    pins = []
+    for letter in word:
+        ahead = [(0, 0)] + pins
+        left, right = min(x for x, _ in ahead), max(x for x, _ in ahead)
+        low, high = min(y for _, y in ahead), max(y for _, y in ahead)
+        x = between([x for x, _ in ahead]) if letter in ("u", "d") else None
+        y = between([y for _, y in ahead]) if letter in ("l", "r") else None
+        if letter in (1, 4, "r"):
+            x = right + 1
+        if letter in (2, 3, "l"):
+            x = left - 1
+        if letter in (1, 2, "u"):
+            y = high + 1
+        if letter in (3, 4, "d"):
+            y = low - 1
+        pins.append((x, y))
+    return pins
+
+
+def between(numbers):
+    """Return a number between the last one, which is the least or the greatest of all, and the one next to it."""
+    others = numbers[:-1]
+    near = max(others) if numbers[-1] > max(others) else min(others)
+    return Fraction(numbers[-1] + near) / 2
+
+
+def slow_pin_order(word, fewer=()):
+    """Return the order of a pin word, without the things of some indexes."""
+    pins = sorted(pin for at, pin in enumerate(slow_pins(word)) if at not in fewer)
+    return slow_pattern([y for _, y in pins])
 
 
 def slow_forms(order):

@@ -3,7 +3,7 @@
 import random
 import unittest
 
-from tests.helpers import NO_ORDERS, Case, all_orders, orders_to, slow_pattern
+from tests.helpers import NO_ORDERS, Case, all_orders, orders_to, slow_blocks, slow_is_simple, slow_pattern
 from wholeorders.errors import InvalidOrder, InvalidPair
 from wholeorders.blocks import (blocks, from_shape, from_tree, is_shape, is_simple, parts, put_together, shape,
                                 skew_parts, skew_summed, summed, tree)
@@ -28,23 +28,6 @@ NO_SHAPES = (
     ("simple", [2, 4, 1, 3], (ONE, ONE, ONE, ONE)), ("simple", (2, 4, 3, 1), (ONE, ONE, ONE, ONE)),
     ("simple", (2, 1), (ONE, ONE)), ("simple", (2, 4, 1, 3), (ONE, ONE, ONE, ONE, ONE)), (1, 2, 3),
     ("simple", (2, 4, 1, 3), (ONE, ONE, ONE, (ONE,))), ("simple", 4, (ONE, ONE, ONE, ONE)), (ONE, ONE, ONE))
-
-
-def slow_blocks(order):
-    """Return all stretches of places whose numbers are a stretch of integers."""
-    found = []
-    for start in range(len(order)):
-        for end in range(start + 1, len(order) + 1):
-            numbers = sorted(order[start:end])
-            if numbers == list(range(numbers[0], numbers[0] + len(numbers))):
-                found.append((start, end))
-    return found
-
-
-def slow_is_simple(order):
-    """Tell whether an order is simple, as the document says it."""
-    trivial = [(at, at + 1) for at in range(len(order))] + [(0, len(order))]
-    return len(order) >= 4 and sorted(trivial) == slow_blocks(order)
 
 
 def cuts(order):

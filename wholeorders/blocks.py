@@ -68,13 +68,19 @@ def block_ends(order, start):
 def is_simple(order):
     """Tell whether an order has four things or more, and no blocks but those of one thing and the whole."""
     check_order(order)
-    if len(order) < 4:
-        return False
+    return len(order) >= 4 and not has_inner_block(order)
+
+
+def has_inner_block(order):
+    """Tell whether an order has a block of two things or more that is not the whole."""
     for start in range(len(order)):
-        ends = block_ends(order, start)
-        if len(ends) > 1 and ends[1] - start < len(order):
-            return False
-    return True
+        low = high = order[start]
+        for place in range(start + 1, min(len(order), start + len(order) - 1)):
+            low = min(low, order[place])
+            high = max(high, order[place])
+            if high - low == place - start:
+                return True
+    return False
 
 
 def put_together(order, orders):

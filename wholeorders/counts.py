@@ -19,16 +19,26 @@ def counts(forbidden, n):
 
 def counted(spelling, n):
     """Return the list of the counts from 0 to n of the orders whose whole words a machine spells, and of ()."""
+    ways = ways_of_none(spelling)
+    found = [1]
+    for _ in range(n):
+        ways = ways_of_more(spelling, ways)
+        found.append(ways[0])
+    return found
+
+
+def ways_of_none(spelling):
+    """Return how many words of no letters lead from each state of a machine to an end."""
     rows, ends = spelling
-    afters = [[after for _, after in row] for row in rows]
     ways = [0] * len(rows)
     for state in ends:
         ways[state] = 1
-    found = [1]
-    for _ in range(n):
-        ways = [sum([ways[after] for after in row]) for row in afters]
-        found.append(ways[0])
-    return found
+    return ways
+
+
+def ways_of_more(spelling, ways):
+    """Return how many words of one letter more lead from each state of a machine to an end."""
+    return [sum([ways[after] for _, after in row]) for row in spelling[0]]
 
 
 def rule(forbidden):

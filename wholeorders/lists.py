@@ -3,6 +3,7 @@
 from wholeorders.blocks import parts, skew_parts
 from wholeorders.errors import InvalidList
 from wholeorders.integers import check_number
+from wholeorders.matching import placings_by, plan_of
 from wholeorders.merges import merges
 from wholeorders.patterns import check_order, does_show, inverse, is_pattern, mirrored, turned
 from wholeorders.patterns import with_one_above, with_one_less
@@ -74,9 +75,18 @@ def least(forbidden):
     return least_of(forbidden)
 
 
-def let_ones(forbidden, patterns):
-    """Return the list of those patterns that a list lets."""
-    return [pattern for pattern in patterns if does_let(forbidden, pattern)]
+def let_ones(forbidden, orders):
+    """Return the list of those orders that a list lets; the plans of its patterns are made but once."""
+    plans = [plan_of(pattern) for pattern in forbidden]
+    return [order for order in orders if not is_barred(plans, order)]
+
+
+def is_barred(plans, order):
+    """Tell whether an order shows the pattern of one of some plans."""
+    for plan in plans:
+        if placings_by(order, plan, 1):
+            return True
+    return False
 
 
 def lies_within(one, other):

@@ -32,8 +32,13 @@ def _next_to(held, coming):
 
 def placings(order, pattern, most):
     """Return the first tuples of places at which an order shows a pattern: all if most is below 0."""
+    return placings_by(order, plan_of(pattern), most)
+
+
+def placings_by(order, plan, most):
+    """Return the first tuples of places at which an order shows the pattern of a plan: all if most is below 0."""
     found = []
-    task = (order, plan_of(pattern), most, {}, found)
+    task = (order, plan, most, {}, found)
     _gather(task, (), (0, len(order) + 1))
     return found
 

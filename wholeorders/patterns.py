@@ -101,6 +101,12 @@ def with_one_above(order):
     return [order[:at] + (more,) + order[at:] for at in range(more)]
 
 
+def with_one_at(order, place, number):
+    """Return the order that has one more thing, a number at a place."""
+    raised = [other + 1 if other >= number else other for other in order]
+    return tuple(raised[:place] + [number] + raised[place:])
+
+
 def with_one_less(order):
     """Return the list of what is left of an order without its first thing, its second one and so on."""
     left = []
