@@ -5,7 +5,7 @@ import importlib
 import inspect
 import unittest
 
-from tests.helpers import TWO
+from tests.helpers import STAIRS, TWO
 
 ORDER = (2, 4, 1, 3)
 WORD = ((1, 0), (1, 3), (1, 3))
@@ -13,6 +13,9 @@ SHAPE = ("skew", ("one",), ("sum", ("one",), ("one",)))
 MACHINE = (((((1, 1), 0), ((1, 3), 1)), ()), (1,))
 OTHER = (((((1, 3), 1),), ()), (1,))
 FALLING = ((1, 2),)
+SAYING = ("both", ("sorted", "stack"), ("turned", ("list", ((2, 1, 3),))))
+PIN = (1, "d", "l", "d", "l")
+ELEVEN = ((1, 2, 3), (4, 3, 2, 1))
 CALLS = {
     "patterns": {
         "is_order": {"told": ORDER}, "is_pattern": {"told": ORDER}, "pattern_of": {"numbers": (5, -2, 9)},
@@ -49,9 +52,44 @@ CALLS = {
         "count": {"forbidden": TWO, "n": 5}, "counts": {"forbidden": TWO, "n": 5}, "rule": {"forbidden": TWO},
         "degree": {"forbidden": TWO}},
     "rates": {"rate": {"forbidden": TWO}, "faster": {"one": TWO, "other": FALLING}},
+    "ranks": {
+        "nth": {"forbidden": TWO, "n": 4, "i": 5}, "place_of": {"forbidden": TWO, "order": (2, 1, 3)},
+        "next_order": {"forbidden": TWO, "order": (2, 1, 3)},
+        "drawn": {"forbidden": TWO, "n": 4, "tape": (1, 0, 1, 1)}},
+    "sorters": {
+        "made": {"sorter": "queues", "order": ORDER}, "sorts": {"sorter": "stack", "order": ORDER},
+        "list_of": {"sorter": "bubble"}, "passes": {"sorter": "popper", "order": ORDER},
+        "least_unsorted": {"sorter": "popper", "n": 4}},
+    "sayings": {
+        "is_saying": {"told": SAYING}, "meaning": {"saying": SAYING}, "lot_of": {"saying": SAYING, "n": 3},
+        "is_meant": {"saying": SAYING, "order": (1, 3, 2)}},
+    "steps": {
+        "without": {"order": ORDER, "at": 1}, "one_more": {"order": ORDER}, "simple_orders": {"n": 5},
+        "simple_let": {"forbidden": STAIRS, "n": 5}, "smaller_simple": {"order": (2, 5, 3, 1, 4)},
+        "is_lone": {"order": ORDER}, "chain": {"order": (2, 5, 3, 1, 4)},
+        "is_chain": {"told": (ORDER, (2, 5, 3, 1, 4))}},
+    "pins": {
+        "is_pin_word": {"told": PIN}, "pin_order": {"word": PIN}, "pin_places": {"word": PIN},
+        "pin_words": {"order": (1, 2)}, "turned_pin": {"word": PIN}, "mirrored_pin": {"word": PIN},
+        "inverse_pin": {"word": PIN}, "left_out": {"word": PIN}, "pin_lets": {"forbidden": STAIRS, "word": PIN},
+        "pin_machine": {"forbidden": STAIRS}, "pin_count": {"forbidden": STAIRS, "n": 4},
+        "pin_road": {"forbidden": STAIRS}},
+    "families": {
+        "kinds": {}, "member": {"kind": ("open", 1), "n": 3},
+        "stops_kind": {"forbidden": STAIRS, "kind": ("open", 1)}, "endless_kind": {"forbidden": ((3, 2, 1),)}},
+    "roads": {
+        "fate": {"forbidden": STAIRS, "most": 300}, "simples": {"forbidden": ELEVEN, "most": 300},
+        "longest": {"forbidden": ELEVEN, "most": 300}, "grown": {"paper": ("pins", (1, "r"), ("u", "r")), "n": 2}},
+    "judges": {
+        "judge_fate": {"forbidden": STAIRS, "paper": ("pins", (1, "r", "d"), ("l", "d"))},
+        "judge_pins": {"forbidden": ((1,),), "rows": ((),)}},
+    "closed": {
+        "is_closed": {"forbidden": TWO}, "closure": {"forbidden": TWO, "most": 300}, "opened": {"forbidden": TWO}},
 }
-LISTS = {"places", "parts_of", "orders", "blocks", "let_of", "letters", "words", "counts"}
-TRUTHS = {"shows", "lets", "lies_within", "same", "stops", "spells"}
+LISTS = {"places", "parts_of", "orders", "blocks", "let_of", "letters", "words", "counts", "least_unsorted", "lot_of",
+         "one_more", "simple_orders", "simple_let", "smaller_simple", "pin_words", "kinds"}
+TRUTHS = {"shows", "lets", "lies_within", "same", "stops", "spells", "sorts", "pin_lets", "judge_fate", "judge_pins"}
+BY_NAME_ALONE = {"most"}
 
 
 def all_calls():
@@ -81,8 +119,14 @@ class CallsTest(unittest.TestCase):
         for _, function, told in all_calls():
             with self.subTest(function=function.__name__):
                 answer = function(**told)
-                self.assertEqual(function(*told.values()), answer)
+                named = {name: told[name] for name in told if name in BY_NAME_ALONE}
+                row = [told[name] for name in told if name not in BY_NAME_ALONE]
+                self.assertEqual(function(*row, **named), answer)
+                self.assertEqual(function(*row), answer)
                 self.assertEqual(function(**dict(reversed(list(told.items())))), answer)
+                if named:
+                    with self.assertRaises(TypeError):
+                        function(*row, *named.values())
 
     def test_what_is_handed_in_is_as_it_was(self):
         for _, function, told in all_calls():

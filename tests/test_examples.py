@@ -71,13 +71,78 @@ RATES = """
 [((1, -2, 0), (2, 1), (2, 1)), ((1, -1), (1, 1), (1, 1)), 1]
 """
 
-ALL = (AHEAD, PATTERNS, BLOCKS, SHAPES, LISTS, SLOTS, ALTERNATIONS, MACHINES, COUNTS, RATES)
+RANKS = """
+>>> from wholeorders.ranks import drawn, next_order, nth, place_of
+>>> [[nth(two, 3, i) for i in range(4)], place_of(two, (2, 1, 3)), next_order(two, (2, 1, 3)), drawn(two, 3, (1, 1, 0)), drawn(two, 3, (1,))]
+[[(2, 1, 3), (1, 2, 3), (1, 3, 2), (3, 2, 1)], 0, (1, 2, 3), ((3, 2, 1), 2), None]
+"""
+
+SORTERS = """
+>>> from wholeorders.sorters import least_unsorted, made, passes, sorts
+>>> [made('stack', (2, 3, 1)), made('bubble', (3, 1, 2)), sorts('popper', (3, 2, 1)), passes('bubble', (2, 3, 1)), least_unsorted('queues', 4)]
+[(2, 1, 3), (1, 2, 3), True, 2, [(3, 2, 1)]]
+"""
+
+SAYINGS = """
+>>> from wholeorders.sayings import is_meant, lot_of, meaning
+>>> [meaning(('both', ('sorted', 'stack'), ('turned', ('list', ((2, 1, 3),))))), lot_of(('either', ('list', ((1, 2),)), ('list', ((2, 1),))), 3)]
+[((2, 3, 1), (3, 1, 2)), [(1, 2, 3), (3, 2, 1)]]
+"""
+
+STEPS = """
+>>> from wholeorders.steps import chain, is_lone, one_more, simple_let, simple_orders, smaller_simple, without
+>>> [without((2, 4, 1, 3), 1), one_more((1,)), simple_orders(4), [len(simple_orders(n)) for n in range(8)]]
+[(2, 1, 3), [(1, 2), (2, 1)], [(2, 4, 1, 3), (3, 1, 4, 2)], [0, 0, 0, 0, 2, 6, 46, 338]]
+>>> [smaller_simple((2, 5, 3, 1, 4)), is_lone((2, 4, 6, 1, 3, 5)), chain((2, 7, 3, 6, 4, 1, 5))[-2:], simple_let(((1, 2, 3), (4, 3, 2, 1)), 5)]
+[[(2, 4, 1, 3)], True, ((2, 6, 3, 5, 1, 4), (2, 7, 3, 6, 4, 1, 5)), [(3, 5, 1, 4, 2), (4, 2, 5, 1, 3)]]
+"""
+
+PINS = """
+>>> from wholeorders.pins import left_out, pin_count, pin_lets, pin_machine, pin_order, pin_places, pin_road, pin_words
+>>> [pin_order((1, "u", "r", "d", "l")), pin_places((1, "u", "r", "d", "l")), pin_words((1, 2)), left_out((1, "d", "l", "d", "l"))]
+[(2, 5, 3, 1, 4), (2, 1, 4, 3, 0), [(1, 'd'), (1, 'l'), (2, 'l'), (2, 'u'), (3, 'r'), (3, 'u'), (4, 'd'), (4, 'r')], (0,)]
+>>> stairs = ((3, 2, 1), (2, 3, 4, 1), (3, 4, 1, 2), (4, 1, 2, 3))
+>>> [pin_machine(((1, 2),))[:3], [pin_count(stairs, n) for n in range(7)], pin_road(stairs), pin_road(((1, 2),))]
+[(((1, 1), (2, 2), (3, 3), (4, 4)), (('r', 5), ('u', 5)), (('d', 5), ('r', 5))), [1, 4, 16, 32, 48, 32, 32], ((1, 'r', 'd'), ('l', 'd')), None]
+"""
+
+FAMILIES = """
+>>> from wholeorders.families import endless_kind, kinds, member, stops_kind
+>>> [kinds()[:2], member(("parallel", 0), 3), member(("open", 0), 3), member(("between", 0), 3)]
+[[('between', 0), ('between', 1)], (2, 4, 6, 1, 3, 5), (4, 1, 7, 2, 6, 3, 5), (2, 7, 3, 6, 4, 1, 5)]
+>>> [endless_kind(((2, 4, 1, 3),)), endless_kind(((3, 2, 1),)), endless_kind(stairs), stops_kind(((3, 2, 1),), ("parallel", 0))]
+[('between', 1), ('parallel', 0), None, None]
+"""
+
+ROADS = """
+>>> from wholeorders.roads import fate, grown, longest, simples
+>>> [fate(((2, 3, 1),)), fate(((3, 2, 1),)), fate(stairs), fate(stairs + ((2, 4, 1, 5, 3),))]
+[('few', (), 4), ('family', ('parallel', 0)), ('pins', (1, 'r', 'd'), ('l', 'd')), ('few', ((2, 4, 1, 3), (3, 1, 4, 2), (3, 1, 5, 2, 4)), 6)]
+>>> [longest(((1, 2, 3), (4, 3, 2, 1))), len(simples(((1, 2, 3), (4, 3, 2, 1)))), grown(fate(stairs), 2)]
+[6, 11, ((3, 1, 5, 2, 4), (3, 1, 5, 2, 7, 4, 6))]
+"""
+
+JUDGES = """
+>>> from wholeorders.judges import judge_fate, judge_pins
+>>> [judge_fate(((3, 2, 1),), ("family", ("parallel", 4))), judge_fate(((3, 2, 1),), ("pins", (1, "r"), ("u", "r"))), judge_pins(((1, 2),), pin_machine(((1, 2),)))]
+[True, True, True]
+"""
+
+CLOSED = """
+>>> from wholeorders.closed import closure, is_closed, opened
+>>> [is_closed(((2, 4, 1, 3),)), is_closed(((2, 1),)), is_closed(((2, 3, 1),)), closure(((2, 3, 1),)), closure(((2, 1),)), opened(((2, 3, 1),))]
+[True, True, False, ((2, 4, 1, 3), (3, 1, 4, 2)), ((2, 1),), ((2, 1), ((1, 2), (1,)))]
+"""
+
+ALL = (
+    AHEAD, PATTERNS, BLOCKS, SHAPES, LISTS, SLOTS, ALTERNATIONS, MACHINES, COUNTS, RATES, RANKS, SORTERS, SAYINGS, STEPS,
+    PINS, FAMILIES, ROADS, JUDGES, CLOSED)
 
 
 class ExamplesTest(unittest.TestCase):
     def test_all_in_the_sequence_of_the_document(self):
         told = doctest.DocTestParser().get_doctest("\n".join(ALL), {}, "examples", None, 0)
-        self.assertEqual(len(told.examples), 25)
+        self.assertEqual(len(told.examples), 48)
         faults = []
         doctest.DocTestRunner(verbose=False).run(told, out=faults.append)
         self.assertEqual(faults, [])

@@ -17,6 +17,25 @@ def least_of_machine(rows, ends):
     return numbered(kept, last, classes(kept, last))
 
 
+def states_met(source, first):
+    """Return (states, rows): all states to which steps lead from the first, and their (letter, index of a state).
+
+    The source tells by its method steps the (letter, state) behind a state.
+    """
+    numbers = {first: 0}
+    states = [first]
+    rows = []
+    while len(rows) < len(states):
+        row = []
+        for letter, after in source.steps(states[len(rows)]):
+            if after not in numbers:
+                numbers[after] = len(states)
+                states.append(after)
+            row.append((letter, numbers[after]))
+        rows.append(row)
+    return states, rows
+
+
 def useful_states(rows, ends):
     """Return the list, from 0 on, of the states that are reached and from which a word leads to an end."""
     backward = [[] for _ in rows]

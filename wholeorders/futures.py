@@ -9,7 +9,7 @@ goes without saying, so no bar is made of it.
 
 from wholeorders.lists import least_of
 from wholeorders.patterns import ranks_of
-from wholeorders.slots import BOTH_SIDES, LEFT_SIDE, NO_SIDE, RIGHT_SIDE
+from wholeorders.slots import BOTH_SIDES, LEFT_SIDE, NO_SIDE, RIGHT_SIDE, letters_of
 
 FIRST_STATE = (1, ())
 
@@ -96,6 +96,11 @@ class Futures:
         """Return the state behind a letter, or None if it is not live."""
         after = self.behind(state, letter)
         return after if after is not None and self.is_live(after) else None
+
+    def steps(self, state):
+        """Return the ascending list of (letter, state behind it), of live states alone."""
+        found = [(letter, self.live_behind(state, letter)) for letter in letters_of(state[0])]
+        return [(letter, after) for letter, after in found if after is not None]
 
 
 def slots_behind(many, letter):

@@ -1,12 +1,12 @@
 """Machines that spell words, and the least machine of the whole words of the orders that a list lets."""
 
 from wholeorders.alternations import first_endless
-from wholeorders.automata import NO_WORDS, first_unlike_word, least_of_machine, side_by_side
+from wholeorders.automata import NO_WORDS, first_unlike_word, least_of_machine, side_by_side, states_met
 from wholeorders.errors import InvalidMachine, InvalidWord, NoMachine
 from wholeorders.futures import FIRST_STATE, Futures
 from wholeorders.integers import are_integers, check_number, is_integer
 from wholeorders.lists import check_list
-from wholeorders.slots import is_letter, is_letter_row, letters_of
+from wholeorders.slots import is_letter, is_letter_row
 
 BOTH = (True, True)
 ONE_ALONE = (True, False)
@@ -81,20 +81,7 @@ def machine_of(forbidden):
     futures = Futures(forbidden)
     if not futures.is_live(FIRST_STATE):
         return NO_WORDS
-    numbers = {FIRST_STATE: 0}
-    states = [FIRST_STATE]
-    rows = []
-    while len(rows) < len(states):
-        state = states[len(rows)]
-        row = []
-        for letter in letters_of(state[0]):
-            after = futures.live_behind(state, letter)
-            if after is not None:
-                if after not in numbers:
-                    numbers[after] = len(states)
-                    states.append(after)
-                row.append((letter, numbers[after]))
-        rows.append(row)
+    states, rows = states_met(futures, FIRST_STATE)
     return least_of_machine(rows, [at for at, state in enumerate(states) if state[0] == 0])
 
 
