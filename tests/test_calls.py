@@ -16,6 +16,11 @@ FALLING = ((1, 2),)
 SAYING = ("both", ("sorted", "stack"), ("turned", ("list", ((2, 1, 3),))))
 PIN = (1, "d", "l", "d", "l")
 ELEVEN = ((1, 2, 3), (4, 3, 2, 1))
+RISING = ((2, 1),)
+HOOKED = ((2, 1), (0,))
+EVEN = ("rest", "things", 2, 0)
+FACT = ("either", ("not", ("shows", (2, 1), (0,))), ("least", "turns", 3))
+ROW = (0, ((0, 0, 1, 0, 0), (0, 0, 1, 1, 1)), (("things", 1, 0),))
 CALLS = {
     "patterns": {
         "is_order": {"told": ORDER}, "is_pattern": {"told": ORDER}, "pattern_of": {"numbers": (5, -2, 9)},
@@ -85,10 +90,34 @@ CALLS = {
         "judge_pins": {"forbidden": ((1,),), "rows": ((),)}},
     "closed": {
         "is_closed": {"forbidden": TWO}, "closure": {"forbidden": TWO, "most": 300}, "opened": {"forbidden": TWO}},
+    "facts": {
+        "is_hooked": {"told": HOOKED}, "is_fact": {"told": FACT}, "meets": {"order": ORDER, "hooked": HOOKED},
+        "meeting_places": {"order": ORDER, "hooked": HOOKED}, "measure": {"order": ORDER, "name": "turns"},
+        "is_true": {"fact": FACT, "order": ORDER}, "hooked_of": {"fact": FACT}},
+    "traits": {
+        "traits": {"forbidden": RISING, "fact": EVEN, "order": (1, 2)},
+        "is_traits": {"forbidden": RISING, "fact": EVEN, "told": ROW},
+        "put_traits": {"forbidden": RISING, "fact": EVEN, "node": (2, 1), "rows": (ROW, ROW)},
+        "is_let": {"forbidden": RISING, "fact": EVEN, "row": ROW},
+        "is_true_of": {"forbidden": RISING, "fact": EVEN, "row": ROW}},
+    "tables": {
+        "table": {"forbidden": RISING, "fact": EVEN, "most": 400},
+        "decided": {"forbidden": RISING, "fact": ("least", "tops", 1), "most": 400},
+        "implied": {"forbidden": RISING, "one": EVEN, "other": ("least", "tops", 1), "most": 400},
+        "examples": {"forbidden": RISING, "fact": EVEN, "most": 400}},
+    "judges2": {"judge_fact": {"forbidden": RISING, "fact": EVEN, "paper": ("breaks", (1,))}},
+    "treecounts": {
+        "tree_counts": {"forbidden": TWO, "fact": FACT, "n": 5},
+        "shape_nth": {"forbidden": TWO, "fact": None, "n": 4, "i": 5},
+        "shape_place": {"forbidden": TWO, "fact": None, "order": (2, 1, 3)},
+        "shape_next": {"forbidden": TWO, "fact": None, "order": (2, 1, 3)},
+        "shape_drawn": {"forbidden": TWO, "fact": None, "n": 4, "tape": (1, 0, 1, 1)}},
 }
 LISTS = {"places", "parts_of", "orders", "blocks", "let_of", "letters", "words", "counts", "least_unsorted", "lot_of",
-         "one_more", "simple_orders", "simple_let", "smaller_simple", "pin_words", "kinds"}
-TRUTHS = {"shows", "lets", "lies_within", "same", "stops", "spells", "sorts", "pin_lets", "judge_fate", "judge_pins"}
+         "one_more", "simple_orders", "simple_let", "smaller_simple", "pin_words", "kinds",
+         "meeting_places", "examples", "tree_counts"}
+TRUTHS = {"shows", "lets", "lies_within", "same", "stops", "spells", "sorts", "pin_lets", "judge_fate", "judge_pins",
+          "meets", "judge_fact"}
 BY_NAME_ALONE = {"most"}
 
 

@@ -134,15 +134,58 @@ CLOSED = """
 [True, True, False, ((2, 4, 1, 3), (3, 1, 4, 2)), ((2, 1),), ((2, 1), ((1, 2), (1,)))]
 """
 
+FACTS = """
+>>> from wholeorders.facts import is_true, measure, meeting_places, meets
+>>> [meets((1, 3, 2), ((2, 1), (0,))), meets((3, 1, 2), ((2, 1), (1,))), meeting_places((3, 1, 2), ((2, 1), ()))]
+[True, True, [(0, 1), (0, 2)]]
+>>> [measure((3, 1, 2), name) for name in ("things", "turns", "drops", "tops", "parts")]
+[3, 2, 1, 1, 1]
+>>> is_true(("both", ("rest", "turns", 2, 0), ("not", ("shows", (1, 2), (-1,)))), (3, 1, 2))
+True
+"""
+
+TRAITS = """
+>>> from wholeorders.traits import put_traits, traits
+>>> even = ("rest", "things", 2, 0)
+>>> traits(((2, 1),), even, (1,))
+(0, ((0, 0, 1, 0, 0), (0, 0, 1, 0, 1), (0, 0, 1, 1, 0), (0, 0, 1, 1, 1), (0, 1, 2, 0, 0), (0, 1, 2, 0, 1), (0, 1, 2, 1, 0), (0, 1, 2, 1, 1)), (('things', 1, 0),))
+>>> put_traits(((2, 1),), even, (1, 2), (traits(((2, 1),), even, (1,)), traits(((2, 1),), even, (1,))))
+(1, ((0, 0, 1, 0, 0), (0, 0, 1, 0, 1), (0, 0, 1, 1, 0), (0, 1, 2, 0, 0), (0, 1, 2, 0, 1), (0, 1, 2, 1, 0)), (('things', 0, 0),))
+"""
+
+TABLES = """
+>>> from wholeorders.tables import decided, implied, table
+>>> [decided(((2, 3, 1),), ("not", ("shows", (3, 1, 2), ()))), decided(((2, 1),), ("least", "tops", 1))[0], len(table(((2, 1),), even))]
+[('breaks', (3, 1, 2)), 'all', 3]
+>>> implied(((2, 1),), even, ("least", "tops", 2))[0]
+'all'
+"""
+
+JUDGES2 = """
+>>> from wholeorders.judges2 import judge_fact
+>>> [judge_fact(((2, 3, 1),), ("not", ("shows", (3, 1, 2), ())), ("breaks", (3, 1, 2))), judge_fact(((2, 1),), ("least", "tops", 1), ("breaks", (1,)))]
+[True, False]
+"""
+
+TREECOUNTS = """
+>>> from wholeorders.treecounts import shape_drawn, shape_next, shape_nth, shape_place, tree_counts
+>>> [tree_counts(((2, 3, 1),), None, 6), tree_counts(((2, 3, 1),), ("least", "parts", 2), 4)]
+[[1, 1, 2, 5, 14, 42, 132], [0, 0, 1, 3, 9]]
+>>> [shape_nth(((2, 3, 1),), None, 3, i) for i in range(5)]
+[(1, 2, 3), (1, 3, 2), (2, 1, 3), (3, 1, 2), (3, 2, 1)]
+>>> [shape_place(((2, 3, 1),), None, (3, 2, 1)), shape_next(((2, 3, 1),), None, (2, 1, 3)), shape_drawn(((2, 3, 1),), None, 3, (1, 1, 0, 0, 1, 0))]
+[4, (3, 1, 2), ((2, 1, 3), 6)]
+"""
+
 ALL = (
     AHEAD, PATTERNS, BLOCKS, SHAPES, LISTS, SLOTS, ALTERNATIONS, MACHINES, COUNTS, RATES, RANKS, SORTERS, SAYINGS, STEPS,
-    PINS, FAMILIES, ROADS, JUDGES, CLOSED)
+    PINS, FAMILIES, ROADS, JUDGES, CLOSED, FACTS, TRAITS, TABLES, JUDGES2, TREECOUNTS)
 
 
 class ExamplesTest(unittest.TestCase):
     def test_all_in_the_sequence_of_the_document(self):
         told = doctest.DocTestParser().get_doctest("\n".join(ALL), {}, "examples", None, 0)
-        self.assertEqual(len(told.examples), 48)
+        self.assertEqual(len(told.examples), 65)
         faults = []
         doctest.DocTestRunner(verbose=False).run(told, out=faults.append)
         self.assertEqual(faults, [])

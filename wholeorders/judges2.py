@@ -1,0 +1,74 @@
+"""A judge of papers of facts: it believes none, and puts together itself what a paper tells."""
+
+from wholeorders.asked import holds_by, hooked_asked, is_let_row, is_of_form, measures_asked, traits_of
+from wholeorders.facts import check_fact, does_hold
+from wholeorders.folds import TraitFolds
+from wholeorders.growths import growth_of, nodes_of
+from wholeorders.lists import check_list, does_let
+from wholeorders.patterns import is_pattern
+from wholeorders.roads import few_paper
+
+MOST_SIMPLE = 300
+
+
+def judge_fact(forbidden, fact, paper):
+    """Tell whether something is a paper of a fact, and right, for a list with few simple orders."""
+    check_list(forbidden)
+    check_fact(fact)
+    simple = few_paper(forbidden, MOST_SIMPLE)[1]
+    if not isinstance(paper, tuple) or len(paper) != 2:
+        return False
+    if paper[0] == "breaks":
+        return judge_breaking(forbidden, fact, simple, paper[1])
+    return paper[0] == "all" and judge_rows(forbidden, fact, simple, paper[1])
+
+
+def judge_breaking(forbidden, fact, simple, order):
+    """Tell whether something is a let order of one or more things and of fewest of which the fact is not true."""
+    if not is_pattern(order) or not does_let(forbidden, order) or does_hold(fact, order):
+        return False
+    growth = growth_of(forbidden, fact, [node for node in simple if len(node) < len(order)], True)
+    growth.go_on(len(order) - 1)
+    for row in growth.rows:
+        if not holds_by(forbidden, fact, growth.folds.traits_of(row)):
+            return False
+    return True
+
+
+def judge_rows(forbidden, fact, simple, rows):
+    """Tell whether something is a closed tuple of traits of each of which the fact is true."""
+    if not isinstance(rows, tuple):
+        return False
+    for row in rows:
+        if not is_of_form(forbidden, fact, row) or not is_let_row(forbidden, row) or not holds_by(forbidden, fact, row):
+            return False
+    if not all([rows[at - 1] < rows[at] for at in range(1, len(rows))]):
+        return False
+    if does_let(forbidden, (1,)) and traits_of(forbidden, fact, (1,)) not in rows:
+        return False
+    nodes = nodes_of(forbidden, simple)
+    folds = TraitFolds(nodes, hooked_asked(forbidden, fact), measures_asked(fact), len(forbidden), False)
+    numbers = {folds.row_of(row): True for row in rows}
+    return all([is_closed_at(folds, index, numbers) for index in range(len(folds.nodes))])
+
+
+def is_closed_at(folds, index, rows):
+    """Tell whether all that is put together of a node and rows, and is let, is among the rows."""
+    size = len(folds.nodes[index])
+    children = []
+    for at in range(size):
+        fit = [row for row in rows if at > 0 or folds.may_begin(index, row)]
+        children.append({folds.kept(index, at, row): True for row in fit})
+    start = (0, folds.starts(index))
+    known = {start: True}
+    waiting = [start]
+    while waiting:
+        at, state = waiting.pop()
+        for kept in children[at]:
+            found = folds.behind(index, at, state, kept)
+            if found is not None and at + 1 == size and found not in rows:
+                return False
+            if found is not None and at + 1 < size and (at + 1, found) not in known:
+                known[(at + 1, found)] = True
+                waiting.append((at + 1, found))
+    return True
