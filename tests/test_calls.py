@@ -20,6 +20,7 @@ RISING = ((2, 1),)
 HOOKED = ((2, 1), (0,))
 EVEN = ("rest", "things", 2, 0)
 FACT = ("either", ("not", ("shows", (2, 1), (0,))), ("least", "turns", 3))
+SYSTEM = (((1, -2, -1), (1, 0, 0)),)
 ROW = (0, ((0, 0, 1, 0, 0), (0, 0, 1, 1, 1)), (("things", 1, 0),))
 CALLS = {
     "patterns": {
@@ -112,12 +113,29 @@ CALLS = {
         "shape_place": {"forbidden": TWO, "fact": None, "order": (2, 1, 3)},
         "shape_next": {"forbidden": TWO, "fact": None, "order": (2, 1, 3)},
         "shape_drawn": {"forbidden": TWO, "fact": None, "n": 4, "tape": (1, 0, 1, 1)}},
+    "systems": {
+        "is_system": {"told": SYSTEM}, "is_founded": {"system": SYSTEM}, "solved": {"system": SYSTEM, "n": 5},
+        "system": {"forbidden": TWO}},
+    "bridges": {
+        "both_counts": {"forbidden": TWO, "n": 5}, "first_unlike": {"forbidden": TWO, "n": 3},
+        "word_of_shape": {"shape": SHAPE}, "shape_of_word": {"word": WORD}},
+    "texts": {
+        "show_number": {"a": (-3, 2)}, "show_order": {"order": ORDER}, "show_list": {"forbidden": TWO},
+        "show_word": {"word": WORD}, "show_machine": {"machine": MACHINE}, "show_saying": {"saying": SAYING},
+        "show_pin": {"word": PIN}, "show_shape": {"shape": SHAPE}, "show_fact": {"fact": FACT},
+        "show_fate": {"paper": ("pins", (1, "r"), ("u", "r"))}},
+    "readers": {
+        "read_order": {"text": "2 4 1 3"}, "read_list": {"text": "2 1, 1 2"}, "read_word": {"text": "1m 1f 1f"},
+        "read_machine": {"text": "0 : 1l 0, 1f 1\n1 end : -"}, "read_saying": {"text": "(turned (list [2 1]))"},
+        "read_pin": {"text": "1 d l"}, "read_shape": {"text": "(- o (+ o o))"},
+        "read_fact": {"text": "(not (shows [2 1] 0))"}, "read_fate": {"text": "few 5\n2 4 1 3"}},
 }
 LISTS = {"places", "parts_of", "orders", "blocks", "let_of", "letters", "words", "counts", "least_unsorted", "lot_of",
          "one_more", "simple_orders", "simple_let", "smaller_simple", "pin_words", "kinds",
-         "meeting_places", "examples", "tree_counts"}
+         "meeting_places", "examples", "tree_counts", "solved"}
 TRUTHS = {"shows", "lets", "lies_within", "same", "stops", "spells", "sorts", "pin_lets", "judge_fate", "judge_pins",
           "meets", "judge_fact"}
+PAIRS_OF_LISTS = {"both_counts"}
 BY_NAME_ALONE = {"most"}
 
 
@@ -174,6 +192,11 @@ class CallsTest(unittest.TestCase):
                 del answer[0]
                 self.assertEqual(function(**told), before)
                 self.assertFalse(any(holds_lists(inner) for inner in before))
+            elif function.__name__ in PAIRS_OF_LISTS:
+                before = copy.deepcopy(answer)
+                answer[0].append("more")
+                answer[1].clear()
+                self.assertEqual(function(**told), before)
             else:
                 self.assertFalse(holds_lists(answer))
 

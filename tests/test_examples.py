@@ -177,15 +177,36 @@ TREECOUNTS = """
 [4, (3, 1, 2), ((2, 1, 3), 6)]
 """
 
+SYSTEMS = """
+>>> from wholeorders.systems import is_founded, solved, system
+>>> [solved((((1, -2, -1), (1, 0, 0)),), 6), is_founded((((1, -1, 0),),)), solved(system(((2, 1),)), 5)]
+[[0, 1, 1, 2, 5, 14, 42], False, [0, 1, 1, 1, 1, 1]]
+"""
+
+BRIDGES = """
+>>> from wholeorders.bridges import both_counts, first_unlike, shape_of_word, word_of_shape
+>>> [both_counts(((2, 3, 1), (3, 1, 2)), 5), first_unlike(((2, 3, 1), (3, 1, 2)), 2), first_unlike(((2, 3, 1), (3, 1, 2)), 3)]
+[([1, 1, 2, 4, 8, 16], [1, 1, 2, 4, 8, 16]), None, 0]
+>>> [word_of_shape(("skew", ("one",), ("one",))), shape_of_word(((1, 3),))]
+[((1, 2), (1, 3)), ('one',)]
+"""
+
+TEXTS = """
+>>> from wholeorders.texts import show_list, show_machine, show_saying, show_word
+>>> [show_list(two), show_word(word_of((2, 1, 3))), show_machine(rising), show_saying(('turned', ('list', ((2, 1),))))]
+['2 3 1, 3 1 2', '1m 1f 1f', '0 : 1l 0, 1f 1\\n1 end : -', '(turned (list [2 1]))']
+"""
+
 ALL = (
     AHEAD, PATTERNS, BLOCKS, SHAPES, LISTS, SLOTS, ALTERNATIONS, MACHINES, COUNTS, RATES, RANKS, SORTERS, SAYINGS, STEPS,
-    PINS, FAMILIES, ROADS, JUDGES, CLOSED, FACTS, TRAITS, TABLES, JUDGES2, TREECOUNTS)
+    PINS, FAMILIES, ROADS, JUDGES, CLOSED, FACTS, TRAITS, TABLES, JUDGES2, TREECOUNTS,
+    SYSTEMS, BRIDGES, TEXTS)
 
 
 class ExamplesTest(unittest.TestCase):
     def test_all_in_the_sequence_of_the_document(self):
         told = doctest.DocTestParser().get_doctest("\n".join(ALL), {}, "examples", None, 0)
-        self.assertEqual(len(told.examples), 65)
+        self.assertEqual(len(told.examples), 72)
         faults = []
         doctest.DocTestRunner(verbose=False).run(told, out=faults.append)
         self.assertEqual(faults, [])

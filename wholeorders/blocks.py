@@ -200,17 +200,22 @@ def grown(told):
 def shape(order):
     """Return the shape of an order of one or more things."""
     check_things(order)
+    return shape_of(order)
+
+
+def shape_of(order):
+    """Return the shape of an order of one or more things, which is not checked."""
     kind, head, pieces = split(order)
     if kind == "one":
         return ("one",)
     if kind == "simple":
         shapes = []
         for piece in pieces:
-            shapes.append(shape(piece))
+            shapes.append(shape_of(piece))
         return kind, head, tuple(shapes)
     first = pieces[0]
     rest = order[len(first):]
-    return kind, shape(first), shape(ranks_of(rest))
+    return kind, shape_of(first), shape_of(ranks_of(rest))
 
 
 def is_shape(told):

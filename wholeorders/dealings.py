@@ -88,6 +88,6 @@ class Dealing:
                 return True
         return False
 
-    def whole(self, state):
+    def together(self, state):
         """Return the pieces that all children have together."""
         return state[0]

@@ -6,6 +6,7 @@ from wholeorders.integers import are_integers, is_integer
 from wholeorders.patterns import check_order, does_show, is_pattern
 
 MEASURES = ("things", "turns", "drops", "tops", "parts")
+TRUE_OF_ALL = ("least", "things", 0)
 
 
 def is_hooked(told):

@@ -30,9 +30,9 @@ class Names:
 class Strand:
     """What one strand of the children of one node leads to, in numbers; None stands behind what is barred."""
 
-    def __init__(self, rule, names, size):
+    def __init__(self, rule, naming, size):
         self.rule = rule
-        self.names = names
+        self.naming = naming
         self.size = size
         self.states = Names()
         self.start = self.states.number_of(rule.first())
@@ -42,15 +42,15 @@ class Strand:
     def kept(self, at, number):
         """Return the number of what hangs on a value of a child."""
         if (at, number) not in self.kept_known:
-            self.kept_known[(at, number)] = self.names.number_of(self.rule.kept(at, self.names.told[number]))
+            self.kept_known[(at, number)] = self.naming.number_of(self.rule.kept(at, self.naming.told[number]))
         return self.kept_known[(at, number)]
 
     def worked_out(self, at, state, number):
         """Return the state behind one more child, or the value of all behind the last one; keep it."""
-        found = self.rule.behind(at, self.states.told[state], self.names.told[number])
+        found = self.rule.behind(at, self.states.told[state], self.naming.told[number])
         if found is not None:
             is_last = at + 1 == self.size
-            found = self.names.number_of(self.rule.whole(found)) if is_last else self.states.number_of(found)
+            found = self.naming.number_of(self.rule.together(found)) if is_last else self.states.number_of(found)
         self.steps_known[(at, state, number)] = found
         return found
 
@@ -60,18 +60,18 @@ class Folds:
 
     def __init__(self, nodes, rules, many):
         self.nodes = nodes
-        self.names = [Names() for _ in range(many)]
+        self.namings = [Names() for _ in range(many)]
         self.strands = []
         for node, row in zip(nodes, rules):
-            self.strands.append([Strand(rule, names, len(node)) for rule, names in zip(row, self.names)])
+            self.strands.append([Strand(rule, naming, len(node)) for rule, naming in zip(row, self.namings)])
 
     def numbered(self, kind, values):
         """Return the row, in numbers, of a kind and the values of all strands."""
-        return (kind,) + tuple([names.number_of(value) for names, value in zip(self.names, values)])
+        return (kind,) + tuple([naming.number_of(value) for naming, value in zip(self.namings, values)])
 
     def values_of(self, row):
         """Return the list of the values of all strands of a row."""
-        return [names.told[number] for names, number in zip(self.names, row[1:])]
+        return [naming.told[number] for naming, number in zip(self.namings, row[1:])]
 
     def starts(self, index):
         """Return the state ahead of all children of the node with an index."""

@@ -49,8 +49,8 @@ class Growth:
         self.waiting[1] = {(None, row): (None, ((1,),))}
 
     def go_on(self, most):
-        """Take all that waits of the fewest things, and so on, but nothing that has more things than most."""
-        while self.waiting and min(self.waiting) <= most:
+        """Take all that waits of the fewest things, and so on, but nothing of more things than most, if it is told."""
+        while self.waiting and (most is None or min(self.waiting) <= most):
             self.take_fewest()
 
     def take_fewest(self):

@@ -6,9 +6,7 @@ from wholeorders.folds import TraitFolds
 from wholeorders.growths import growth_of, nodes_of
 from wholeorders.lists import check_list, does_let
 from wholeorders.patterns import is_pattern
-from wholeorders.roads import few_paper
-
-MOST_SIMPLE = 300
+from wholeorders.roads import MOST_SIMPLE, few_paper
 
 
 def judge_fact(forbidden, fact, paper):

@@ -28,13 +28,13 @@ class Tabled:
         """Return the state behind one more child of a class, or None if nothing that is let comes of it."""
         return self.table[at][state].get(one)
 
-    def whole(self, state):
+    def together(self, state):
         """Return the class of all children together."""
         return state
 
 
 def merged_of(forbidden, fact, nodes, n):
-    """Return the classes, by whether the fact is true, of the let orders of up to n things that nodes are told for."""
+    """Return the classes, by whether the fact is true, of the let orders of up to n things, of all if n is None."""
     shown = merged_by_pieces(forbidden, fact, nodes, n)
     measures = measures_asked(fact)
     tallies = tally_values(measures, traits_of(forbidden, fact, (1,))[2])

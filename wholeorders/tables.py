@@ -6,9 +6,7 @@ from wholeorders.facts import check_fact
 from wholeorders.growths import growth_of
 from wholeorders.integers import check_number
 from wholeorders.lists import by_length, check_list
-from wholeorders.roads import few_paper
-
-MOST_SIMPLE = 300
+from wholeorders.roads import MOST_SIMPLE, few_paper
 
 
 def check_all(forbidden, facts, most):

@@ -40,7 +40,7 @@ class Sums:
         """Return the state behind one more child with its tally."""
         return added(state, self.kept(at, tally), self.modulus, self.number)
 
-    def whole(self, state):
+    def together(self, state):
         """Return the tally of all children together."""
         return state
 
@@ -73,6 +73,6 @@ class Turns:
         return (added(things, pair[0], self.things[0], self.things[1]),
                 added(inside, between, self.turns[0], self.turns[1]), tuple(raised))
 
-    def whole(self, state):
+    def together(self, state):
         """Return both tallies of all children together."""
         return state[:2]

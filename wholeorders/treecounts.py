@@ -1,18 +1,15 @@
 """How many orders a list with few simple orders lets, or of how many of them a fact is true, by their shapes."""
 
 from wholeorders.errors import InvalidNumber, InvalidPair, NotLet
-from wholeorders.facts import check_fact, does_hold
+from wholeorders.facts import TRUE_OF_ALL, check_fact, does_hold
 from wholeorders.growths import nodes_of
 from wholeorders.integers import check_number
 from wholeorders.lists import check_list, does_let, least_of
 from wholeorders.lots import merged_of
 from wholeorders.patterns import check_order
 from wholeorders.ranks import check_tape, number_drawn
-from wholeorders.roads import few_paper
+from wholeorders.roads import MOST_SIMPLE, few_paper
 from wholeorders.weights import Counts, order_found, place_found, weighed
-
-MOST_SIMPLE = 300
-TRUE_OF_ALL = ("least", "things", 0)
 
 
 def check_asked(forbidden, fact):
@@ -62,10 +59,10 @@ def shape_nth(forbidden, fact, n, i):
     counts = counts_of(forbidden, fact, n)
     if i >= how_many(counts, fact, n):
         raise InvalidNumber(i)
-    return order_at(counts, n, i)
+    return order_by_shapes(counts, n, i)
 
 
-def order_at(counts, n, i):
+def order_by_shapes(counts, n, i):
     """Return the i-th order of n things; there must be one."""
     return order_found(counts, weights_of(counts), n, i)[0] if n > 0 else ()
 
@@ -91,7 +88,7 @@ def shape_next(forbidden, fact, order):
     check_order(order)
     counts = counts_of(forbidden, fact, len(order))
     i = place_in(counts, forbidden, fact, order) + 1
-    return order_at(counts, len(order), i) if i < how_many(counts, fact, len(order)) else None
+    return order_by_shapes(counts, len(order), i) if i < how_many(counts, fact, len(order)) else None
 
 
 def shape_drawn(forbidden, fact, n, tape):
@@ -104,4 +101,4 @@ def shape_drawn(forbidden, fact, n, tape):
     if many == 0:
         raise InvalidPair((n, 0))
     drawing = number_drawn(many, tape)
-    return None if drawing is None else (order_at(counts, n, drawing[0]), drawing[1])
+    return None if drawing is None else (order_by_shapes(counts, n, drawing[0]), drawing[1])
