@@ -40,7 +40,7 @@ class Dealing:
         leads_on = not is_last and end < len(self.pattern) and right == self.tie(end - 1)
         return (opens or goes_on) and (closes or leads_on)
 
-    def behind(self, at, state, pieces):
+    def led_on(self, at, state, pieces):
         """Return the state behind one more child with its pieces, or None if a barred pattern is whole."""
         has = {piece: True for piece in pieces}
         done = {piece: True for piece in state[0]}
@@ -49,7 +49,7 @@ class Dealing:
             start, left, end, heights = thread
             self.deal(at, thread, has, done, begun)
             if not self.tie(end - 1):
-                begun[(start, left, end, heights[1:])] = True
+                self.begin(begun, (start, left, end, heights[1:]))
         for start in range(len(self.pattern)):
             for left in self.lefts[start]:
                 if left == 0 or at == 0:
@@ -70,7 +70,14 @@ class Dealing:
                 if (right == 0 or is_last) and (middle, end, side, right) in has:
                     done[(start, end, left, right)] = True
             if end < len(self.pattern) and (middle, end, side, self.tie(end - 1)) in has:
-                begun[(start, left, end, self.raised(at, heights, end - middle))] = True
+                self.begin(begun, (start, left, end, self.raised(at, heights, end - middle)))
+
+    def begin(self, begun, thread):
+        """Add a thread to those that are begun, if its next thing can be dealt to some child behind."""
+        start, _, end, heights = thread
+        fitting = heights[:1] if self.tie(end - 1) else heights
+        if self.height_of(start, end, end) in fitting:
+            begun[thread] = True
 
     def height_of(self, start, middle, thing):
         """Return how many of the things from start to middle - 1 another thing stands above."""

@@ -47,7 +47,7 @@ class Strand:
 
     def worked_out(self, at, state, number):
         """Return the state behind one more child, or the value of all behind the last one; keep it."""
-        found = self.rule.behind(at, self.states.told[state], self.naming.told[number])
+        found = self.rule.led_on(at, self.states.told[state], self.naming.told[number])
         if found is not None:
             is_last = at + 1 == self.size
             found = self.naming.number_of(self.rule.together(found)) if is_last else self.states.number_of(found)
@@ -77,11 +77,11 @@ class Folds:
         """Return the state ahead of all children of the node with an index."""
         return tuple([strand.start for strand in self.strands[index]])
 
-    def kept(self, index, at, row):
+    def kept_of_row(self, index, at, row):
         """Return what hangs on a row if it is that of a child of a node."""
         return tuple([strand.kept(at, number) for strand, number in zip(self.strands[index], row[1:])])
 
-    def behind(self, index, at, state, kept):
+    def folded(self, index, at, state, kept):
         """Return the state behind one more child of a node, behind the last one a row, or None if it is barred."""
         found = []
         for strand, one, number in zip(self.strands[index], state, kept):
@@ -169,5 +169,5 @@ def put_rows(forbidden, fact, node, rows):
     folds = TraitFolds([node], hooked_asked(forbidden, fact), measures_asked(fact), 0, False)
     state = folds.starts(0)
     for at, row in enumerate(rows):
-        state = folds.behind(0, at, state, folds.kept(0, at, folds.row_of(row)))
+        state = folds.folded(0, at, state, folds.kept_of_row(0, at, folds.row_of(row)))
     return folds.traits_of(state)

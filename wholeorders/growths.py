@@ -7,6 +7,7 @@ with each state between children that is met, once: as soon as both are there.
 from wholeorders.asked import hooked_asked, measures_asked, traits_of
 from wholeorders.blocks import inflated
 from wholeorders.folds import NODES, TraitFolds
+from wholeorders.hopes import Hopes
 from wholeorders.lists import does_let
 
 
@@ -41,9 +42,11 @@ class Growth:
         self.kept_of_rows = {place: {} for place in self.places}
         self.steps_met = {place: {} for place in self.places}
         self.waiting = {}
+        self.hopes = None
 
     def begin(self, row):
         """Begin with the row of one thing and the states ahead of all children."""
+        self.hopes = Hopes(self.folds, row)
         for index in range(len(self.folds.nodes)):
             self.states[(index, 0)][self.folds.starts(index)] = ()
         self.waiting[1] = {(None, row): (None, ((1,),))}
@@ -55,7 +58,8 @@ class Growth:
 
     def take_fewest(self):
         """Take all that waits of the fewest things."""
-        for (place, met), (node, orders) in self.waiting.pop(min(self.waiting)).items():
+        fewest = self.waiting.pop(min(self.waiting))
+        for (place, met), (node, orders) in list(fewest.items()):
             if place is not None:
                 self.take_state(place, met, orders)
             elif met not in self.rows:
@@ -67,12 +71,18 @@ class Growth:
         for place in self.places:
             index, at = place
             if at > 0 or self.folds.may_begin(index, row):
-                kept = self.folds.kept(index, at, row)
-                self.kept_of_rows[place][row] = kept
-                if kept not in self.kept_met[place]:
-                    self.kept_met[place][kept] = order
-                    for state, orders in self.states[place].items():
-                        self.meet(place, state, kept, orders + (order,))
+                kept = self.folds.kept_of_row(index, at, row)
+                if kept in self.kept_met[place]:
+                    self.kept_of_rows[place][row] = kept
+                elif self.hopes.may_be_child(index, at, kept):
+                    self.kept_of_rows[place][row] = kept
+                    self.take_kept(place, kept, order)
+
+    def take_kept(self, place, kept, order):
+        """Take what is kept of a row for a child, and put it together with all states."""
+        self.kept_met[place][kept] = order
+        for state, orders in self.states[place].items():
+            self.meet(place, state, kept, orders + (order,))
 
     def take_state(self, place, state, orders):
         """Take a state between children, if it is met for the first time, and put it together with all rows."""
@@ -85,13 +95,15 @@ class Growth:
     def meet(self, place, state, kept, orders):
         """Let what a state and one more child lead to wait, unless it is barred or known."""
         index, at = place
-        found = self.folds.behind(index, at, state, kept)
+        found = self.folds.folded(index, at, state, kept)
         if found is None:
+            return
+        node = self.folds.nodes[index]
+        after = None if at + 1 == len(node) else (index, at + 1)
+        if after is not None and not self.hopes.may_go_on(index, at + 1, found):
             return
         if self.keeps_steps:
             self.steps_met[place][(state, kept)] = found
-        node = self.folds.nodes[index]
-        after = None if at + 1 == len(node) else (index, at + 1)
         if found in (self.rows if after is None else self.states[after]):
             return
         size = sum([len(order) for order in orders])

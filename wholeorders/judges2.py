@@ -4,6 +4,7 @@ from wholeorders.asked import holds_by, hooked_asked, is_let_row, is_of_form, me
 from wholeorders.facts import check_fact, does_hold
 from wholeorders.folds import TraitFolds
 from wholeorders.growths import growth_of, nodes_of
+from wholeorders.hopes import Hopes
 from wholeorders.lists import check_list, does_let
 from wholeorders.patterns import is_pattern
 from wholeorders.roads import MOST_SIMPLE, few_paper
@@ -47,26 +48,51 @@ def judge_rows(forbidden, fact, simple, rows):
     nodes = nodes_of(forbidden, simple)
     folds = TraitFolds(nodes, hooked_asked(forbidden, fact), measures_asked(fact), len(forbidden), False)
     numbers = {folds.row_of(row): True for row in rows}
-    return all([is_closed_at(folds, index, numbers) for index in range(len(folds.nodes))])
+    hopes = None
+    if nodes and all([shows_one_thing(forbidden, row) for row in rows]):
+        hopes = Hopes(folds, folds.row_of(traits_of(forbidden, fact, (1,))))
+    return all([is_closed_at(folds, index, numbers, hopes) for index in range(len(nodes))])
 
 
-def is_closed_at(folds, index, rows):
-    """Tell whether all that is put together of a node and rows, and is let, is among the rows."""
-    size = len(folds.nodes[index])
-    children = []
-    for at in range(size):
+def shows_one_thing(forbidden, row):
+    """Tell whether a row has all pieces of one thing, of patterns of the list, that its places beside others allow."""
+    pieces = {piece: True for piece in row[1]}
+    for index, pattern in enumerate(forbidden):
+        for thing in range(len(pattern)):
+            for left, right in ((0, 0), (0, 1), (1, 0)):
+                if (index, thing, thing + 1, left, right) not in pieces:
+                    return False
+    return True
+
+
+def children_of(folds, index, rows, hopes):
+    """Return, for each child of a node, the dict of what is kept of the rows that may be its."""
+    found = []
+    for at in range(len(folds.nodes[index])):
         fit = [row for row in rows if at > 0 or folds.may_begin(index, row)]
-        children.append({folds.kept(index, at, row): True for row in fit})
+        kept = {folds.kept_of_row(index, at, row): True for row in fit}
+        found.append([one for one in kept if hopes is None or hopes.may_be_child(index, at, one)])
+    return found
+
+
+def is_closed_at(folds, index, rows, hopes):
+    """Tell whether all that is put together of a node and rows, and is let, is among the rows.
+
+    If all rows show one thing, there are hopes: what nothing let comes of need not be followed.
+    """
+    size = len(folds.nodes[index])
+    children = children_of(folds, index, rows, hopes)
     start = (0, folds.starts(index))
     known = {start: True}
     waiting = [start]
     while waiting:
         at, state = waiting.pop()
         for kept in children[at]:
-            found = folds.behind(index, at, state, kept)
+            found = folds.folded(index, at, state, kept)
             if found is not None and at + 1 == size and found not in rows:
                 return False
             if found is not None and at + 1 < size and (at + 1, found) not in known:
                 known[(at + 1, found)] = True
-                waiting.append((at + 1, found))
+                if hopes is None or hopes.may_go_on(index, at + 1, found):
+                    waiting.append((at + 1, found))
     return True

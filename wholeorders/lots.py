@@ -24,7 +24,7 @@ class Tabled:
         """Return what hangs on the class of a child, all children alike."""
         return one
 
-    def behind(self, at, state, one):
+    def led_on(self, at, state, one):
         """Return the state behind one more child of a class, or None if nothing that is let comes of it."""
         return self.table[at][state].get(one)
 

@@ -19,7 +19,16 @@ def check_all(forbidden, facts, most):
 
 def rows_of(forbidden, fact, most):
     """Return the dict of the traits of all let orders of one or more things, with an order of fewest things each."""
-    growth = growth_of(forbidden, fact, few_paper(forbidden, MOST_SIMPLE)[1], False)
+    simple = few_paper(forbidden, MOST_SIMPLE)[1]
+    if simple:
+        # Sums and skew sums alone are soon put together, and often they are too many already.
+        rows_put_together(forbidden, fact, (), most)
+    return rows_put_together(forbidden, fact, simple, most)
+
+
+def rows_put_together(forbidden, fact, simple, most):
+    """Return the dict of the traits of all let orders that come of sums, skew sums and some simple orders."""
+    growth = growth_of(forbidden, fact, simple, False)
     while growth.waiting:
         growth.take_fewest()
         if len(growth.rows) > most:

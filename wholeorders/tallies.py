@@ -36,7 +36,7 @@ class Sums:
         """Return what hangs on the tally of a child."""
         return tally if self.does_count[at] else (0, 0)
 
-    def behind(self, at, state, tally):
+    def led_on(self, at, state, tally):
         """Return the state behind one more child with its tally."""
         return added(state, self.kept(at, tally), self.modulus, self.number)
 
@@ -61,7 +61,7 @@ class Turns:
         """Return what hangs on the tallies of a child, all children alike."""
         return pair
 
-    def behind(self, at, state, pair):
+    def led_on(self, at, state, pair):
         """Return the state behind one more child with both tallies."""
         things, turns, above = state
         between = multiplied(above[0], pair[0], self.turns[0], self.turns[1])
