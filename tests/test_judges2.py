@@ -5,13 +5,14 @@ import unittest
 
 from tests.helpers import FAMILY_LISTS, NO_LISTS, NOTHING, RISING, ROAD_LISTS, STAIRS, TWO, Case
 from tests.slow_facts import EVEN, NO_FACTS, slow_truth
-from tests.slow_tables import (CROSSED, ELEVEN, NO_SIMPLE_LISTS, TABLE_FACTS, TABLE_PAIRS, let_to, slow_closed,
-                               slow_nodes)
+from tests.slow_tables import (CROSSED, ELEVEN, NO_SIMPLE_LISTS, TABLE_FACTS, TABLE_PAIRS, all_put, let_to,
+                               slow_closed, slow_nodes)
 from tests.test_traits import bent_row, no_rows
 from wholeorders.errors import InvalidFact, InvalidList, NotFew, TooMany
 from wholeorders.judges2 import judge_fact
 from wholeorders.roads import fate
 from wholeorders.tables import decided, table
+from wholeorders.traits import is_let
 
 FALL = ((2, 3, 1),)
 NO_PAPERS = (None, 3, "", "all", (), [], ("all",), ("breaks",), ("all", ()), ("all", None), ("all", 3), ("all", "01"),
@@ -68,8 +69,24 @@ class AllTest(Case):
                     found[right] += told != rows
         self.assertGreater(min(found.values()), 10)
 
+    def test_rows_that_do_not_show_one_thing(self):
+        """Beside such a row may be let what is barred beside all others: it must be put together too."""
+        fact = ("least", "things", 0)
+        for forbidden in (((1, 2, 3), (2, 1)), ((2, 1), (1, 2, 3, 4)), ((1, 2), (3, 2, 1))):
+            nodes = slow_nodes(forbidden, 3)
+            numbers = (("things", 0, 0),)
+            rows = set(table(forbidden, fact)) | {(3, (), numbers)} | {(3,) + row[1:] for row in table(forbidden, fact)}
+            while not slow_closed(forbidden, fact, nodes, tuple(sorted(rows))):
+                for node in nodes:
+                    found = set(all_put(forbidden, fact, node, sorted(rows)))
+                    rows |= {more for more in found if is_let(forbidden, fact, more)}
+            rows = tuple(sorted(rows))
+            self.assertIs(judge_fact(forbidden, fact, ("all", rows)), True)
+            for at in range(len(rows)):
+                told = rows[:at] + rows[at + 1:]
+                self.assertIs(judge_fact(forbidden, fact, ("all", told)), slow_closed(forbidden, fact, nodes, told))
+
     def test_nodes_of_four_things(self):
-        forbidden = ((1, 2, 3), (2, 1))
         for forbidden in (((1, 2, 3), (2, 1)), ((2, 4, 1, 3), (1, 2, 3), (3, 2, 1), (2, 1, 4, 3), (3, 4, 1, 2))):
             fact = ("least", "things", 1)
             rows = table(forbidden, fact)

@@ -8,10 +8,11 @@ from tests.helpers import STAIRS, TWO, Case
 from tests.slow_facts import EIGHT_LEAVES, EVEN, NO_FACTS, SIX_DEEP, slow_truth
 from tests.slow_tables import CROSSED, ELEVEN, TABLE_FACTS, TABLE_LISTS, let_to, place_in_shapes, slow_split
 from tests.test_ranks import NO_TAPES
+from wholeorders.blocks import put_together
 from wholeorders.counts import counts
 from wholeorders.errors import (InvalidFact, InvalidList, InvalidNumber, InvalidOrder, InvalidPair, InvalidTape, NotFew,
                                 NotLet, TooMany)
-from wholeorders.facts import is_true
+from wholeorders.facts import is_true, measure
 from wholeorders.lists import lets
 from wholeorders.ranks import drawn
 from wholeorders.roads import fate
@@ -94,6 +95,16 @@ class SequenceTest(Case):
         for i in range(0, len(orders), 3):
             self.assertEqual(shape_nth(((3, 2, 1), (3, 1, 2, 4)), None, 6, i), orders[i])
             self.assertEqual(shape_place(((3, 2, 1), (3, 1, 2, 4)), None, orders[i]), i)
+
+    def test_simple_orders_within_simple_ones(self):
+        forbidden = ((2, 4, 1, 3), (4, 1, 3, 5, 2), (4, 1, 5, 2, 6, 3), (5, 3, 1, 6, 4, 2))
+        found = [len([order for order in let_to(forbidden, 6) if len(order) == n]) for n in range(7)]
+        self.assertEqual(tree_counts(forbidden, None, 7), found + [2498])
+        for places in ((0,), (3,), (0, 2), (0, 1, 2, 3)):
+            order = put_together((3, 1, 4, 2), tuple((3, 1, 4, 2) if at in places else (1,) for at in range(4)))
+            for fact in (None, ("shows", (3, 1, 4, 2), (0, 1, 2)), ("rest", "turns", 3, measure(order, "turns") % 3)):
+                i = shape_place(forbidden, fact, order)
+                self.assertEqual(shape_nth(forbidden, fact, len(order), i), order)
 
     def test_at_the_bounds(self):
         told = ((FALL, None, 40), (CROSSED, None, 40), (CROSSED, ("both", ("rest", "turns", 2, 0), EVEN), 30), (RISING, EVEN, 30),

@@ -49,7 +49,7 @@ class Dealing:
             start, left, end, heights = thread
             self.deal(at, thread, has, done, begun)
             if not self.tie(end - 1):
-                self.begin(begun, (start, left, end, heights[1:]))
+                self.begin_thread(begun, (start, left, end, heights[1:]))
         for start in range(len(self.pattern)):
             for left in self.lefts[start]:
                 if left == 0 or at == 0:
@@ -70,9 +70,9 @@ class Dealing:
                 if (right == 0 or is_last) and (middle, end, side, right) in has:
                     done[(start, end, left, right)] = True
             if end < len(self.pattern) and (middle, end, side, self.tie(end - 1)) in has:
-                self.begin(begun, (start, left, end, self.raised(at, heights, end - middle)))
+                self.begin_thread(begun, (start, left, end, self.raised(at, heights, end - middle)))
 
-    def begin(self, begun, thread):
+    def begin_thread(self, begun, thread):
         """Add a thread to those that are begun, if its next thing can be dealt to some child behind."""
         start, _, end, heights = thread
         fitting = heights[:1] if self.tie(end - 1) else heights

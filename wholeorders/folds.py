@@ -73,7 +73,7 @@ class Folds:
         """Return the list of the values of all strands of a row."""
         return [naming.told[number] for naming, number in zip(self.namings, row[1:])]
 
-    def starts(self, index):
+    def start_of(self, index):
         """Return the state ahead of all children of the node with an index."""
         return tuple([strand.start for strand in self.strands[index]])
 
@@ -167,7 +167,7 @@ def tally_rules(measures, node):
 def put_rows(forbidden, fact, node, rows):
     """Return what is put together of a node and as many things of the form of traits; nothing is checked."""
     folds = TraitFolds([node], hooked_asked(forbidden, fact), measures_asked(fact), 0, False)
-    state = folds.starts(0)
+    state = folds.start_of(0)
     for at, row in enumerate(rows):
         state = folds.folded(0, at, state, folds.kept_of_row(0, at, folds.row_of(row)))
     return folds.traits_of(state)

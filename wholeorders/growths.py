@@ -16,13 +16,10 @@ def nodes_of(forbidden, simple):
     return [node for node in NODES if does_let(forbidden, node)] + list(simple)
 
 
-def growth_of(forbidden, fact, simple, is_lean):
-    """Return the growth of the rows of a list and a fact, in which one thing alone waits, if it is let.
-
-    A lean one has rows of those pieces alone on which it hangs what is let and what the fact is true of.
-    """
+def growth_of(forbidden, fact, simple):
+    """Return the growth of the rows of a list and a fact, in which one thing alone waits, if it is let."""
     nodes = nodes_of(forbidden, simple)
-    folds = TraitFolds(nodes, hooked_asked(forbidden, fact), measures_asked(fact), len(forbidden), is_lean)
+    folds = TraitFolds(nodes, hooked_asked(forbidden, fact), measures_asked(fact), len(forbidden), False)
     growth = Growth(folds, False)
     if does_let(forbidden, (1,)):
         growth.begin(folds.row_of(traits_of(forbidden, fact, (1,))))
@@ -48,7 +45,7 @@ class Growth:
         """Begin with the row of one thing and the states ahead of all children."""
         self.hopes = Hopes(self.folds, row)
         for index in range(len(self.folds.nodes)):
-            self.states[(index, 0)][self.folds.starts(index)] = ()
+            self.states[(index, 0)][self.folds.start_of(index)] = ()
         self.waiting[1] = {(None, row): (None, ((1,),))}
 
     def go_on(self, most):

@@ -15,7 +15,7 @@ class Hopes:
 
     def ahead(self, index, at):
         """Return the state ahead of a child if all children ahead of it are one thing each, or None."""
-        return self.with_points(index, 0, at, self.folds.starts(index))
+        return self.with_points(index, 0, at, self.folds.start_of(index))
 
     def with_points(self, index, start, end, state):
         """Return the state behind some more children that are one thing each, or None."""

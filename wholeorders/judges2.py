@@ -3,11 +3,13 @@
 from wholeorders.asked import holds_by, hooked_asked, is_let_row, is_of_form, measures_asked, traits_of
 from wholeorders.facts import check_fact, does_hold
 from wholeorders.folds import TraitFolds
-from wholeorders.growths import growth_of, nodes_of
+from wholeorders.growths import nodes_of
 from wholeorders.hopes import Hopes
-from wholeorders.lists import check_list, does_let
+from wholeorders.lists import check_list, does_let, least_of
+from wholeorders.lots import merged_of
 from wholeorders.patterns import is_pattern
 from wholeorders.roads import MOST_SIMPLE, few_paper
+from wholeorders.weights import Counts
 
 
 def judge_fact(forbidden, fact, paper):
@@ -26,12 +28,10 @@ def judge_breaking(forbidden, fact, simple, order):
     """Tell whether something is a let order of one or more things and of fewest of which the fact is not true."""
     if not is_pattern(order) or not does_let(forbidden, order) or does_hold(fact, order):
         return False
-    growth = growth_of(forbidden, fact, [node for node in simple if len(node) < len(order)], True)
-    growth.go_on(len(order) - 1)
-    for row in growth.rows:
-        if not holds_by(forbidden, fact, growth.folds.traits_of(row)):
-            return False
-    return True
+    fewer = len(order) - 1
+    nodes = nodes_of(forbidden, [node for node in simple if len(node) <= fewer])
+    counts = Counts(merged_of(least_of(forbidden), fact, nodes, fewer), fewer)
+    return all([holds or not any(many) for holds, many in zip(counts.merged.signs, counts.many)])
 
 
 def judge_rows(forbidden, fact, simple, rows):
@@ -82,7 +82,7 @@ def is_closed_at(folds, index, rows, hopes):
     """
     size = len(folds.nodes[index])
     children = children_of(folds, index, rows, hopes)
-    start = (0, folds.starts(index))
+    start = (0, folds.start_of(index))
     known = {start: True}
     waiting = [start]
     while waiting:

@@ -4,6 +4,7 @@ First the rows of pieces alone are merged, then those of their classes and the t
 """
 
 from wholeorders.asked import hooked_asked, holds_with, measures_asked, shown_by, traits_of
+from wholeorders.blocks import is_simple
 from wholeorders.folds import Folds, TraitFolds, tallies_of, tally_rules, tally_values
 from wholeorders.growths import Growth
 from wholeorders.lists import does_let
@@ -33,8 +34,20 @@ class Tabled:
         return state
 
 
+def barring(forbidden):
+    """Return those patterns of a least list that may be shown by what is put together of let nodes and let orders.
+
+    A simple pattern, or one of two things, is shown there only if the node or one of the orders shows it.
+    """
+    return tuple([pattern for pattern in forbidden if len(pattern) != 2 and not is_simple(pattern)])
+
+
 def merged_of(forbidden, fact, nodes, n):
-    """Return the classes, by whether the fact is true, of the let orders of up to n things, of all if n is None."""
+    """Return the classes, by whether the fact is true, of the let orders of up to n things, of all if n is None.
+
+    The list is a least one, the nodes are all that it lets and that have so few things.
+    """
+    forbidden = barring(forbidden)
     shown = merged_by_pieces(forbidden, fact, nodes, n)
     measures = measures_asked(fact)
     tallies = tally_values(measures, traits_of(forbidden, fact, (1,))[2])

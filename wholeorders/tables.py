@@ -28,7 +28,7 @@ def rows_of(forbidden, fact, most):
 
 def rows_put_together(forbidden, fact, simple, most):
     """Return the dict of the traits of all let orders that come of sums, skew sums and some simple orders."""
-    growth = growth_of(forbidden, fact, simple, False)
+    growth = growth_of(forbidden, fact, simple)
     while growth.waiting:
         growth.take_fewest()
         if len(growth.rows) > most:
