@@ -41,9 +41,9 @@ class AllTest(Case):
             if paper[0] == "breaks":
                 self.assertIs(judge_fact(forbidden, fact, ("all", rows)), False)
             else:
-                for order in let_to(forbidden, 4):
+                for order in let_to(forbidden, 3):
                     self.assertIs(judge_fact(forbidden, fact, ("breaks", order)), False)
-                step = max(1, len(rows) // 6)
+                step = max(1, len(rows) // 3)
                 for at in range(0, len(rows), step):
                     self.assertIs(judge_fact(forbidden, fact, ("all", rows[:at] + rows[at + 1:])), False)
                 few = bent(rows) if rows else []

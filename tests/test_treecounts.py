@@ -81,7 +81,7 @@ class SequenceTest(Case):
             for fact in FACTS[:5]:
                 for n in range(6):
                     orders = in_sequence(forbidden, fact, n)
-                    for i in list(range(len(orders)))[:3] + list(range(len(orders)))[3::8]:
+                    for i in [at for at in range(len(orders)) if at < 2 or at % 9 == 0]:
                         self.assertEqual(shape_nth(forbidden, fact, n, i), orders[i])
                         self.assertEqual(shape_place(forbidden, fact, orders[i]), i)
                         after = orders[i + 1] if i + 1 < len(orders) else None

@@ -48,10 +48,11 @@ def judge_rows(forbidden, fact, simple, rows):
     nodes = nodes_of(forbidden, simple)
     folds = TraitFolds(nodes, hooked_asked(forbidden, fact), measures_asked(fact), len(forbidden), False)
     numbers = {folds.row_of(row): True for row in rows}
-    hopes = None
-    if nodes and all([shows_one_thing(forbidden, row) for row in rows]):
-        hopes = Hopes(folds, folds.row_of(traits_of(forbidden, fact, (1,))))
-    return all([is_closed_at(folds, index, numbers, hopes) for index in range(len(nodes))])
+    plain = [folds.row_of(row) for row in rows if shows_one_thing(forbidden, row)]
+    # Those that show one thing are soon put together, and most faults come to light there.
+    if not are_closed(folds, plain, numbers, Hopes(folds, folds.row_of(traits_of(forbidden, fact, (1,))))):
+        return False
+    return len(plain) == len(rows) or are_closed(folds, list(numbers), numbers, None)
 
 
 def shows_one_thing(forbidden, row):
@@ -65,23 +66,30 @@ def shows_one_thing(forbidden, row):
     return True
 
 
-def children_of(folds, index, rows, hopes):
-    """Return, for each child of a node, the dict of what is kept of the rows that may be its."""
+def are_closed(folds, chosen, rows, hopes):
+    """Tell whether all that is put together of chosen rows, and is let, is among the rows."""
+    for index in range(len(folds.nodes)):
+        if not is_closed_at(folds, index, children_of(folds, index, chosen, hopes), rows, hopes):
+            return False
+    return True
+
+
+def children_of(folds, index, chosen, hopes):
+    """Return, for each child of a node, the list of what is kept of the chosen rows that may be its."""
     found = []
     for at in range(len(folds.nodes[index])):
-        fit = [row for row in rows if at > 0 or folds.may_begin(index, row)]
+        fit = [row for row in chosen if at > 0 or folds.may_begin(index, row)]
         kept = {folds.kept_of_row(index, at, row): True for row in fit}
         found.append([one for one in kept if hopes is None or hopes.may_be_child(index, at, one)])
     return found
 
 
-def is_closed_at(folds, index, rows, hopes):
-    """Tell whether all that is put together of a node and rows, and is let, is among the rows.
+def is_closed_at(folds, index, children, rows, hopes):
+    """Tell whether all that is put together of a node and what is kept for its children, and is let, is among the rows.
 
-    If all rows show one thing, there are hopes: what nothing let comes of need not be followed.
+    If all that is put together shows one thing, there are hopes: what nothing let comes of need not be followed.
     """
     size = len(folds.nodes[index])
-    children = children_of(folds, index, rows, hopes)
     start = (0, folds.start_of(index))
     known = {start: True}
     waiting = [start]
