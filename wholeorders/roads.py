@@ -11,7 +11,7 @@ SHORTEST_ROAD = 5
 MOST_SIMPLE = 300
 
 
-def fate(forbidden, *, most=MOST_SIMPLE):
+def fate(forbidden, *, most=300):
     """Return the paper of a list: few simple orders, or a kind or a road that never ends."""
     check_list(forbidden)
     check_number(most)
@@ -49,12 +49,12 @@ def few_paper(forbidden, most):
     return paper
 
 
-def simples(forbidden, *, most=MOST_SIMPLE):
+def simples(forbidden, *, most=300):
     """Return the tuple of all simple orders that a list lets, if they are few."""
     return few_paper(forbidden, most)[1]
 
 
-def longest(forbidden, *, most=MOST_SIMPLE):
+def longest(forbidden, *, most=300):
     """Return how many things the longest simple order has that a list lets, 0 if there is none, None without end."""
     paper = fate(forbidden, most=most)
     if paper[0] != "few":
